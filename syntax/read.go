@@ -6,6 +6,7 @@ import (
 	"stepper/api"
 	"stepper/datum"
 	"stepper/fault"
+	"stepper/value"
 )
 
 // Read reads a text as an input: one datum that is a form.
@@ -44,7 +45,7 @@ func readForm(d datum.Datum) (Form, error) {
 		}
 		return name, nil
 	}
-	return Constant{Datum: d}, nil
+	return Constant{Value: value.Of(d)}, nil
 }
 
 func readForms(data []datum.Datum) ([]Form, error) {
@@ -95,7 +96,7 @@ func readQuote(parts datum.List) (Form, error) {
 	if len(parts) != 1 {
 		return nil, noForm("reading a quote")
 	}
-	return Constant{Datum: parts[0], Quoted: true}, nil
+	return Constant{Value: value.Of(parts[0]), Quoted: true}, nil
 }
 
 func readIf(parts datum.List) (Form, error) {

@@ -7,13 +7,13 @@ import (
 	"testing"
 
 	"stepper/api"
-	"stepper/datum"
 	"stepper/fault"
+	"stepper/value"
 )
 
-var one, two, three = Constant{Datum: datum.Number(1)}, Constant{Datum: datum.Number(2)}, Constant{Datum: datum.Number(3)}
+var one, two, three = Constant{Value: value.Number(1)}, Constant{Value: value.Number(2)}, Constant{Value: value.Number(3)}
 
-func quoted(d datum.Datum) Constant { return Constant{Datum: d, Quoted: true} }
+func quoted(v value.Value) Constant { return Constant{Value: v, Quoted: true} }
 
 func TestReadMakesTheForm(t *testing.T) {
 	for _, c := range []struct {
@@ -21,9 +21,9 @@ func TestReadMakesTheForm(t *testing.T) {
 		want Form
 	}{
 		{"1", one},
-		{"#f", Constant{Datum: datum.Truth(false)}},
-		{"'1", quoted(datum.Number(1))},
-		{"(quote (if))", quoted(datum.List{datum.Name("if")})},
+		{"#f", Constant{Value: value.Truth(false)}},
+		{"'1", quoted(value.Number(1))},
+		{"(quote (if))", quoted(&value.Pair{First: value.Name("if"), Rest: value.Empty{}})},
 		{"x", Name("x")},
 		{"(if 1 2 3)", If{one, two, three}},
 		{"(begin 1)", Begin{[]Form{one}}},
@@ -34,7 +34,7 @@ func TestReadMakesTheForm(t *testing.T) {
 		{"(lambda (x y) y)", Lambda{[]Name{"x", "y"}, Name("y")}},
 		{"(f)", Call{[]Form{Name("f")}}},
 		{"(1 2 3)", Call{[]Form{one, two, three}}},
-		{"('f x)", Call{[]Form{quoted(datum.Name("f")), Name("x")}}},
+		{"('f x)", Call{[]Form{quoted(value.Name("f")), Name("x")}}},
 	} {
 		got, err := Read(c.text)
 		if err != nil || !reflect.DeepEqual(got, c.want) {

@@ -1,16 +1,24 @@
 // Package syntax reads a text as the form that it writes.
 package syntax
 
-import "stepper/datum"
+import (
+	"stepper/datum"
+	"stepper/spell"
+	"stepper/value"
+)
 
 // Form is a Constant, a Name, an If, a Begin, a Set, a Lambda, a Call or a
 // Define. A let has no form of its own: it is the Call that it is the same as.
-type Form interface{ isForm() }
+type Form interface {
+	spell.Speller
+	isForm()
+}
 
 type (
-	// Constant is a number, a truth, or a quoted datum.
+	// Constant is a number, a truth, or a quoted datum: its value is made
+	// here, once, so that it is one and the same whenever it is worked out.
 	Constant struct {
-		Datum  datum.Datum
+		Value  value.Value
 		Quoted bool
 	}
 
