@@ -39,16 +39,16 @@ func (r *run) apply(v value.Value, arguments []value.Value) error {
 }
 
 func (r *run) applyProcedure(p *procedure, arguments []value.Value) error {
-	if len(arguments) != len(p.lambda.Names) {
-		return fault.While("applying a procedure", api.ErrArity)
+	if err := value.CheckCount("a procedure", len(p.lambda.Names), arguments); err != nil {
+		return err
 	}
 	r.workOut(p.lambda.Body, &surroundings{names: p.lambda.Names, places: arguments, outer: p.around})
 	return nil
 }
 
 func (r *run) applyContinuation(c *continuation, arguments []value.Value) error {
-	if len(arguments) != 1 {
-		return fault.While("applying a continuation", api.ErrArity)
+	if err := value.CheckCount("a continuation", 1, arguments); err != nil {
+		return err
 	}
 	r.frames = c.frames
 	r.give(arguments[0])
@@ -56,8 +56,8 @@ func (r *run) applyContinuation(c *continuation, arguments []value.Value) error 
 }
 
 func (r *run) applyCallCC(arguments []value.Value) error {
-	if len(arguments) != 1 {
-		return fault.While("applying call/cc", api.ErrArity)
+	if err := value.CheckCount("call/cc", 1, arguments); err != nil {
+		return err
 	}
 	return r.apply(arguments[0], []value.Value{&continuation{frames: r.frames}})
 }

@@ -56,7 +56,7 @@ func (f setFrame) take(r *run, v value.Value) error {
 }
 
 func (f defineFrame) take(r *run, v value.Value) error {
-	r.globals[string(f.name)] = v
+	r.globals[f.name.Number] = v
 	r.give(value.Nothing{})
 	return nil
 }

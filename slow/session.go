@@ -4,16 +4,21 @@ package slow
 import (
 	"stepper/api"
 	"stepper/fault"
+	"stepper/names"
 	"stepper/spell"
 	"stepper/syntax"
 	"stepper/value"
 )
 
-// Session is what one input leaves to the next.
-type Session struct{ globals map[string]value.Value }
+// Session is what one input leaves to the next: the globals, by the numbers of
+// their names.
+type Session struct{ globals map[int]value.Value }
 
-// NewSession is a session ahead of its first input.
-func NewSession() *Session { return &Session{globals: value.Globals()} }
+// NewSession is a session ahead of its first input. The names of its inputs
+// have their numbers from this same table.
+func NewSession(table *names.Table) *Session {
+	return &Session{globals: value.Globals(table)}
+}
 
 // Run runs an input with a fuel: its output, and the text of the value with
 // which it has ended or the error because of which it has not.

@@ -6,12 +6,24 @@ import (
 
 	"stepper/api"
 	"stepper/fault"
+	"stepper/names"
 	"stepper/syntax"
 )
 
-func read(t *testing.T, text string) syntax.Form {
+// tried is a session and the table that its inputs are read with.
+type tried struct {
+	*Session
+	table *names.Table
+}
+
+func newTried() tried {
+	table := names.NewTable()
+	return tried{NewSession(table), table}
+}
+
+func (s tried) read(t *testing.T, text string) syntax.Form {
 	t.Helper()
-	f, err := syntax.Read(text)
+	f, err := syntax.Read(text, s.table)
 	if err != nil {
 		t.Fatal(err)
 	}
@@ -35,7 +47,8 @@ func TestAnErrorTellsWhatWasAboutToBeDone(t *testing.T) {
 		{"(call/cc)", api.ErrArity, "applying call/cc"},
 		{"((lambda (f) (f f)) (lambda (f) (f f)))", api.ErrFuel, "making a further step"},
 	} {
-		output, text, err := NewSession().Run(read(t, c.text), 100)
+		s := newTried()
+		output, text, err := s.Run(s.read(t, c.text), 100)
 		var doing fault.Doing
 		if !errors.As(err, &doing) || doing.What != c.what || !errors.Is(err, fault.Fault(c.code)) {
 			t.Errorf("%s: %v, want error %d while %s", c.text, err, c.code, c.what)
@@ -47,28 +60,28 @@ func TestAnErrorTellsWhatWasAboutToBeDone(t *testing.T) {
 }
 
 func TestASessionKeepsItsGlobalsAndNoOthers(t *testing.T) {
-	first, second := NewSession(), NewSession()
-	if _, _, err := first.Run(read(t, "(define car 5)"), 3); err != nil {
+	first, second := newTried(), newTried()
+	if _, _, err := first.Run(first.read(t, "(define car 5)"), 3); err != nil {
 		t.Fatal(err)
 	}
-	if _, text, err := first.Run(read(t, "car"), 1); text != "5" || err != nil {
+	if _, text, err := first.Run(first.read(t, "car"), 1); text != "5" || err != nil {
 		t.Errorf("in the first session: %q, %v", text, err)
 	}
-	if _, text, err := second.Run(read(t, "car"), 1); text != "#procedure" || err != nil {
+	if _, text, err := second.Run(second.read(t, "car"), 1); text != "#procedure" || err != nil {
 		t.Errorf("in the second session: %q, %v", text, err)
 	}
 }
 
 // A form that is run twice has its quoted data once.
 func TestAFormIsReadOnceHoweverOftenItIsRun(t *testing.T) {
-	s := NewSession()
-	quoted := read(t, "(set! x (cons '(1) x))")
-	for _, f := range []syntax.Form{read(t, "(define x '())"), quoted, quoted} {
+	s := newTried()
+	quoted := s.read(t, "(set! x (cons '(1) x))")
+	for _, f := range []syntax.Form{s.read(t, "(define x '())"), quoted, quoted} {
 		if _, _, err := s.Run(f, 99); err != nil {
 			t.Fatal(err)
 		}
 	}
-	if _, text, err := s.Run(read(t, "(eq? (car x) (car (cdr x)))"), 99); text != "#t" || err != nil {
+	if _, text, err := s.Run(s.read(t, "(eq? (car x) (car (cdr x)))"), 99); text != "#t" || err != nil {
 		t.Errorf("%q, %v", text, err)
 	}
 }

@@ -64,7 +64,7 @@ type surroundings struct {
 func (s *surroundings) place(name syntax.Name) *value.Value {
 	for ; s != nil; s = s.outer {
 		for i, n := range s.names {
-			if n == name {
+			if n.Number == name.Number {
 				return &s.places[i]
 			}
 		}

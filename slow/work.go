@@ -48,9 +48,9 @@ func (r *run) lookUp(name syntax.Name) error {
 		r.give(*place)
 		return nil
 	}
-	v, ok := r.globals[string(name)]
+	v, ok := r.globals[name.Number]
 	if !ok {
-		return fault.While("looking up "+string(name), api.ErrUnbound)
+		return fault.While("looking up "+name.Text, api.ErrUnbound)
 	}
 	r.give(v)
 	return nil
@@ -61,9 +61,9 @@ func (r *run) set(name syntax.Name, around *surroundings, v value.Value) error {
 		*place = v
 		return nil
 	}
-	if _, ok := r.globals[string(name)]; !ok {
-		return fault.While("setting "+string(name), api.ErrUnbound)
+	if _, ok := r.globals[name.Number]; !ok {
+		return fault.While("setting "+name.Text, api.ErrUnbound)
 	}
-	r.globals[string(name)] = v
+	r.globals[name.Number] = v
 	return nil
 }

@@ -2,7 +2,6 @@ package stepper
 
 import (
 	"slices"
-	"strings"
 	"testing"
 
 	"stepper/api"
@@ -23,16 +22,27 @@ func TestP1BesideAnErrorAheadOfRunningAllIsEmpty(t *testing.T) {
 	wantOutcomes(t, []api.Input{{Text: "(display 1)", Fuel: -1}, {Text: "(display 1)", Fuel: api.MaxFuel + 1}}, []api.Outcome{{Code: api.ErrOver}, {Code: api.ErrOver}})
 }
 
+// byAll is what each call answers that runs a script.
+func byAll(script []api.Input) [][]api.Outcome {
+	bySlow, byFast := Both(script)
+	return [][]api.Outcome{Slow(script), Fast(script), bySlow, byFast}
+}
+
 func TestP1BesideAnotherErrorTheValueIsEmpty(t *testing.T) {
 	for _, last := range []string{"nowhere", "(car 1)", "(car)", "(* 1099511627776 2)", "(1)", "(set! nowhere 1)"} {
-		got := Slow(script("(begin (display 'out) 5 " + last + ")"))[0]
-		if got.Code == api.OK || got.Output != "out" || got.Value != "" {
-			t.Errorf("%s: %+v", last, got)
+		for _, got := range byAll(script("(begin (display 'out) 5 " + last + ")")) {
+			if got[0].Code == api.OK || got[0].Output != "out" || got[0].Value != "" {
+				t.Errorf("%s: %+v", last, got)
+			}
 		}
 	}
 	for fuel := range 8 {
-		if got := Slow([]api.Input{{Text: "(begin (display 'out) 5)", Fuel: fuel}})[0]; got.Value != "" {
-			t.Errorf("with %d: %+v", fuel, got)
+		for _, got := range byAll([]api.Input{{Text: "(begin (display 'out) 5)", Fuel: fuel}, {Text: "(begin (display 'out) 5)", Fuel: fuel}}) {
+			for _, o := range got {
+				if o.Code != api.OK && o.Value != "" {
+					t.Errorf("with %d: %+v", fuel, got)
+				}
+			}
 		}
 	}
 }
@@ -64,6 +74,7 @@ func wantAnswered(t *testing.T, text string) {
 	if checked != api.OK && got != (api.Outcome{Code: checked}) || checked == api.OK && got.Code != api.OK && got.Code < api.ErrFuel {
 		t.Errorf("Slow(%q) = %+v, Check %d", text, got, checked)
 	}
+	wantFast(t, []api.Input{{Text: text, Fuel: 9}})
 }
 
 // Frames, pairs and surroundings as many as the fuel makes.
@@ -77,9 +88,12 @@ func TestP1DeepThingsEnd(t *testing.T) {
 		"(define l (lambda (n) (l (call/cc (lambda (k) k)))))",
 		"(define l (lambda (n) (cons (call/cc l) n)))",
 	} {
-		got := Slow([]api.Input{{Text: loop, Fuel: 3}, {Text: "(define x 1)", Fuel: 3}, {Text: "(l 1)", Fuel: api.MaxFuel}, {Text: "x", Fuel: 1}})
-		if got[2] != (api.Outcome{Code: api.ErrFuel}) || got[3].Value != "1" {
-			t.Errorf("%s: %+v", loop, got)
+		bySlow, byFast := Both([]api.Input{{Text: loop, Fuel: 3}, {Text: "(define x 1)", Fuel: 3}, {Text: "(l 1)", Fuel: api.MaxFuel}, {Text: "x", Fuel: 1}})
+		if bySlow[2] != (api.Outcome{Code: api.ErrFuel}) || bySlow[3].Value != "1" {
+			t.Errorf("%s: %+v", loop, bySlow)
+		}
+		if byFast[2] != (api.Outcome{Code: api.ErrFuel}) || byFast[3] != (api.Outcome{Code: api.ErrFuel}) {
+			t.Errorf("%s: %+v", loop, byFast)
 		}
 	}
 }
@@ -89,11 +103,13 @@ func lively() []api.Input {
 }
 
 func TestP2NothingIsKeptFromCallToCall(t *testing.T) {
-	first := Slow(lively())
+	first := byAll(lively())
 	lines, _ := Trace(lively(), "(cons + (car x))", 99)
 	for range 3 {
-		if again := Slow(lively()); !slices.Equal(first, again) {
-			t.Errorf("first %+v, then %+v", first, again)
+		for i, again := range byAll(lively()) {
+			if !slices.Equal(first[i], again) {
+				t.Errorf("first %+v, then %+v", first[i], again)
+			}
 		}
 		if again, _ := Trace(lively(), "(cons + (car x))", 99); !slices.Equal(lines, again) {
 			t.Errorf("first %+v, then %+v", lines, again)
@@ -103,15 +119,22 @@ func TestP2NothingIsKeptFromCallToCall(t *testing.T) {
 	wantTrace(t, nil, "k", work("k", 0))
 }
 
+// However the engines get ahead of one another, the answers are the same.
 func TestP2CallsAtTheSameTime(t *testing.T) {
-	want := Slow(lively())
-	answers := make(chan []api.Outcome)
+	want := byAll(lively())
+	answers := make(chan [][]api.Outcome)
 	for range 8 {
-		go func() { answers <- Slow(lively()) }()
+		go func() {
+			for range 20 {
+				answers <- byAll(lively())
+			}
+		}()
 	}
-	for range 8 {
-		if got := <-answers; !slices.Equal(got, want) {
-			t.Errorf("%+v, want %+v", got, want)
+	for range 8 * 20 {
+		for i, got := range <-answers {
+			if !slices.Equal(got, want[i]) {
+				t.Errorf("%+v, want %+v", got, want[i])
+			}
 		}
 	}
 }
@@ -120,27 +143,35 @@ func TestP2WhatIsHandedInStays(t *testing.T) {
 	room := append(lively(), lively()...)
 	before := slices.Clone(room)
 	handed := room[:len(room)/2]
-	Slow(handed)
+	byAll(handed)
 	Trace(handed, "(k 5)", 99)
 	if !slices.Equal(room, before) {
 		t.Errorf("%+v, before %+v", room, before)
 	}
 }
 
+// Each list is written over, its spare room too, and all others stay.
 func TestP2EveryListIsNew(t *testing.T) {
-	first, second := Slow(lively()), Slow(lively())
+	want := Slow(lively())
+	lists := append(byAll(lively()), byAll(lively())...)
+	for i, list := range lists {
+		for j := range list[:cap(list)] {
+			list[:cap(list)][j] = api.Outcome{Value: "zzz"}
+		}
+		for _, other := range append(lists[i+1:], Slow(lively()), Fast(lively())) {
+			if !slices.Equal(other, want) {
+				t.Fatalf("%+v behind writing, want %+v", other, want)
+			}
+		}
+	}
 	lines, _ := Trace(nil, "(+ 1 2)", 99)
 	others, _ := Trace(nil, "(+ 1 2)", 99)
-	want, wantLines := slices.Clone(second), slices.Clone(others)
-	for i := range first {
-		first[i] = api.Outcome{Value: strings.Repeat("z", 3)}
-	}
+	wantLines := slices.Clone(others)
 	for i := range lines {
 		lines[i] = api.Line{What: -1}
 	}
-	third := Slow(lively())
 	again, _ := Trace(nil, "(+ 1 2)", 99)
-	if !slices.Equal(second, want) || !slices.Equal(third, want) || !slices.Equal(others, wantLines) || !slices.Equal(again, wantLines) {
-		t.Error("writing into one answer is seen in another one")
+	if !slices.Equal(others, wantLines) || !slices.Equal(again, wantLines) {
+		t.Error("writing into one trace is seen in another one")
 	}
 }

@@ -38,6 +38,8 @@ func wantSession(t *testing.T, session ...said) {
 			t.Errorf("input %d, %.80q: %+v, want %+v", i, s.text, got[i], s.want)
 		}
 	}
+	wantFast(t, script)
+	wantBoth(t, script)
 }
 
 func TestP4Examples(t *testing.T) {
@@ -216,6 +218,8 @@ func wantOutcomes(t *testing.T, script []api.Input, want []api.Outcome) {
 			t.Errorf("input %d, %.80q with %d: %+v, want %+v", i, script[i].Text, script[i].Fuel, got[i], want[i])
 		}
 	}
+	wantFast(t, script)
+	wantBoth(t, script)
 }
 
 func TestP4AFuelThatMayNotBe(t *testing.T) {
@@ -256,13 +260,20 @@ func TestP4FuelJustEnoughAndOneTooFew(t *testing.T) {
 	}
 }
 
+// failing is an input and the step that is an error.
+type failing struct {
+	text  string
+	steps int
+	code  api.Errno
+}
+
+func countedFaults() []failing {
+	return []failing{{"x", 1, api.ErrUnbound}, {"(set! x 1)", 3, api.ErrUnbound}, {"(1)", 3, api.ErrType}, {"(car 1)", 5, api.ErrType}, {"(car)", 3, api.ErrArity},
+		{"((lambda () 1) 2)", 5, api.ErrArity}, {"(* 1099511627776 2)", 7, api.ErrBig}, {"(call/cc 1)", 5, api.ErrType}, {"(call/cc car)", 5, api.ErrType}, {"(call/cc +)", 5, api.ErrArity}}
+}
+
 func TestP4AnErrorComesWithItsStep(t *testing.T) {
-	for _, c := range []struct {
-		text  string
-		steps int
-		code  api.Errno
-	}{{"x", 1, api.ErrUnbound}, {"(set! x 1)", 3, api.ErrUnbound}, {"(1)", 3, api.ErrType}, {"(car 1)", 5, api.ErrType}, {"(car)", 3, api.ErrArity},
-		{"((lambda () 1) 2)", 5, api.ErrArity}, {"(* 1099511627776 2)", 7, api.ErrBig}, {"(call/cc 1)", 5, api.ErrType}, {"(call/cc car)", 5, api.ErrType}, {"(call/cc +)", 5, api.ErrArity}} {
+	for _, c := range countedFaults() {
 		wantOutcomes(t, []api.Input{{Text: c.text, Fuel: c.steps - 1}}, []api.Outcome{{Code: api.ErrFuel}})
 		wantOutcomes(t, []api.Input{{Text: c.text, Fuel: c.steps}}, []api.Outcome{{Code: c.code}})
 	}

@@ -6,20 +6,25 @@ import (
 	"stepper/api"
 	"stepper/datum"
 	"stepper/fault"
+	"stepper/names"
 	"stepper/value"
 )
 
-// Read reads a text as an input: one datum that is a form.
-func Read(text string) (Form, error) {
+// Read reads a text as an input: one datum that is a form. Its names have
+// their numbers from the table.
+func Read(text string, table *names.Table) (Form, error) {
 	d, err := datum.Read(text)
 	if err != nil {
 		return nil, err
 	}
+	r := reader{table}
 	if items, ok := d.(datum.List); ok && keywordOf(items) == "define" {
-		return readDefine(items[1:])
+		return r.define(items[1:])
 	}
-	return readForm(d)
+	return r.form(d)
 }
+
+type reader struct{ table *names.Table }
 
 // keywordOf is the keyword with which a list begins, or no text.
 func keywordOf(items datum.List) datum.Name {
@@ -34,12 +39,12 @@ func keywordOf(items datum.List) datum.Name {
 
 func noForm(doing string) error { return fault.While(doing, api.ErrForm) }
 
-func readForm(d datum.Datum) (Form, error) {
+func (r reader) form(d datum.Datum) (Form, error) {
 	switch d := d.(type) {
 	case datum.List:
-		return readList(d)
+		return r.list(d)
 	case datum.Name:
-		name, err := readName(d)
+		name, err := r.name(d)
 		if err != nil {
 			return nil, err
 		}
@@ -48,10 +53,10 @@ func readForm(d datum.Datum) (Form, error) {
 	return Constant{Value: value.Of(d)}, nil
 }
 
-func readForms(data []datum.Datum) ([]Form, error) {
+func (r reader) forms(data []datum.Datum) ([]Form, error) {
 	var forms []Form
 	for _, d := range data {
-		f, err := readForm(d)
+		f, err := r.form(d)
 		if err != nil {
 			return nil, err
 		}
@@ -60,135 +65,135 @@ func readForms(data []datum.Datum) ([]Form, error) {
 	return forms, nil
 }
 
-func readName(d datum.Datum) (Name, error) {
+func (r reader) name(d datum.Datum) (Name, error) {
 	name, ok := d.(datum.Name)
 	if !ok || isKeyword(name) {
-		return "", noForm("reading a name")
+		return Name{}, noForm("reading a name")
 	}
-	return Name(name), nil
+	return Name{Text: string(name), Number: r.table.Number(string(name))}, nil
 }
 
-func readList(items datum.List) (Form, error) {
+func (r reader) list(items datum.List) (Form, error) {
 	if len(items) == 0 {
 		return nil, noForm("reading a list as a form")
 	}
 	parts := items[1:]
 	switch keywordOf(items) {
 	case "quote":
-		return readQuote(parts)
+		return r.quote(parts)
 	case "if":
-		return readIf(parts)
+		return r.ifForm(parts)
 	case "begin":
-		return readBegin(parts)
+		return r.begin(parts)
 	case "set!":
-		return readSet(parts)
+		return r.set(parts)
 	case "lambda":
-		return readLambda(parts)
+		return r.lambda(parts)
 	case "let":
-		return readLet(parts)
+		return r.let(parts)
 	case "define":
 		return nil, noForm("reading a define inside a form")
 	}
-	return readCall(items)
+	return r.call(items)
 }
 
-func readQuote(parts datum.List) (Form, error) {
+func (r reader) quote(parts datum.List) (Form, error) {
 	if len(parts) != 1 {
 		return nil, noForm("reading a quote")
 	}
 	return Constant{Value: value.Of(parts[0]), Quoted: true}, nil
 }
 
-func readIf(parts datum.List) (Form, error) {
+func (r reader) ifForm(parts datum.List) (Form, error) {
 	if len(parts) != 3 {
 		return nil, noForm("reading an if")
 	}
-	forms, err := readForms(parts)
+	forms, err := r.forms(parts)
 	if err != nil {
 		return nil, err
 	}
 	return If{Test: forms[0], Then: forms[1], Else: forms[2]}, nil
 }
 
-func readBegin(parts datum.List) (Form, error) {
+func (r reader) begin(parts datum.List) (Form, error) {
 	if len(parts) == 0 {
 		return nil, noForm("reading a begin")
 	}
-	forms, err := readForms(parts)
+	forms, err := r.forms(parts)
 	if err != nil {
 		return nil, err
 	}
 	return Begin{Forms: forms}, nil
 }
 
-func readSet(parts datum.List) (Form, error) {
-	name, value, err := readNameAndForm(parts)
+func (r reader) set(parts datum.List) (Form, error) {
+	name, value, err := r.nameAndForm(parts)
 	if err != nil {
 		return nil, err
 	}
 	return Set{Name: name, Value: value}, nil
 }
 
-func readDefine(parts datum.List) (Form, error) {
-	name, value, err := readNameAndForm(parts)
+func (r reader) define(parts datum.List) (Form, error) {
+	name, value, err := r.nameAndForm(parts)
 	if err != nil {
 		return nil, err
 	}
 	return Define{Name: name, Value: value}, nil
 }
 
-func readNameAndForm(parts datum.List) (Name, Form, error) {
+func (r reader) nameAndForm(parts datum.List) (Name, Form, error) {
 	if len(parts) != 2 {
-		return "", nil, noForm("reading a name and a form")
+		return Name{}, nil, noForm("reading a name and a form")
 	}
-	name, err := readName(parts[0])
+	name, err := r.name(parts[0])
 	if err != nil {
-		return "", nil, err
+		return Name{}, nil, err
 	}
-	value, err := readForm(parts[1])
+	value, err := r.form(parts[1])
 	if err != nil {
-		return "", nil, err
+		return Name{}, nil, err
 	}
 	return name, value, nil
 }
 
-func readLambda(parts datum.List) (Form, error) {
+func (r reader) lambda(parts datum.List) (Form, error) {
 	if len(parts) != 2 {
 		return nil, noForm("reading a lambda")
 	}
-	names, err := readNames(parts[0])
+	bound, err := r.names(parts[0])
 	if err != nil {
 		return nil, err
 	}
-	body, err := readForm(parts[1])
+	body, err := r.form(parts[1])
 	if err != nil {
 		return nil, err
 	}
-	return Lambda{Names: names, Body: body}, nil
+	return Lambda{Names: bound, Body: body}, nil
 }
 
-func readNames(d datum.Datum) ([]Name, error) {
+func (r reader) names(d datum.Datum) ([]Name, error) {
 	items, ok := d.(datum.List)
 	if !ok {
 		return nil, noForm("reading the names of a lambda")
 	}
-	var names []Name
+	var bound []Name
 	for _, item := range items {
-		name, err := readName(item)
+		name, err := r.name(item)
 		if err != nil {
 			return nil, err
 		}
-		if slices.Contains(names, name) {
+		if slices.Contains(bound, name) {
 			return nil, noForm("reading a name for the second time")
 		}
-		names = append(names, name)
+		bound = append(bound, name)
 	}
-	return names, nil
+	return bound, nil
 }
 
 // readLet writes the let out as the datum that it is the same as, so that
 // what holds for that one holds for it.
-func readLet(parts datum.List) (Form, error) {
+func (r reader) let(parts datum.List) (Form, error) {
 	if len(parts) != 2 {
 		return nil, noForm("reading a let")
 	}
@@ -196,21 +201,21 @@ func readLet(parts datum.List) (Form, error) {
 	if !ok {
 		return nil, noForm("reading the bindings of a let")
 	}
-	names, values := datum.List{}, datum.List{}
+	bound, values := datum.List{}, datum.List{}
 	for _, d := range bindings {
 		binding, ok := d.(datum.List)
 		if !ok || len(binding) != 2 {
 			return nil, noForm("reading a binding of a let")
 		}
-		names = append(names, binding[0])
+		bound = append(bound, binding[0])
 		values = append(values, binding[1])
 	}
-	lambda := datum.List{datum.Name("lambda"), names, parts[1]}
-	return readCall(append(datum.List{lambda}, values...))
+	lambda := datum.List{datum.Name("lambda"), bound, parts[1]}
+	return r.call(append(datum.List{lambda}, values...))
 }
 
-func readCall(items datum.List) (Form, error) {
-	forms, err := readForms(items)
+func (r reader) call(items datum.List) (Form, error) {
+	forms, err := r.forms(items)
 	if err != nil {
 		return nil, err
 	}

@@ -8,10 +8,13 @@ import (
 
 	"stepper/api"
 	"stepper/fault"
+	"stepper/names"
 	"stepper/value"
 )
 
 var one, two, three = Constant{Value: value.Number(1)}, Constant{Value: value.Number(2)}, Constant{Value: value.Number(3)}
+
+func read(text string) (Form, error) { return Read(text, names.NewTable()) }
 
 func quoted(v value.Value) Constant { return Constant{Value: v, Quoted: true} }
 
@@ -24,19 +27,19 @@ func TestReadMakesTheForm(t *testing.T) {
 		{"#f", Constant{Value: value.Truth(false)}},
 		{"'1", quoted(value.Number(1))},
 		{"(quote (if))", quoted(&value.Pair{First: value.Name("if"), Rest: value.Empty{}})},
-		{"x", Name("x")},
+		{"x", Name{"x", 0}},
 		{"(if 1 2 3)", If{one, two, three}},
 		{"(begin 1)", Begin{[]Form{one}}},
 		{"(begin 1 2)", Begin{[]Form{one, two}}},
-		{"(set! x 1)", Set{"x", one}},
-		{"(define x 1)", Define{"x", one}},
+		{"(set! x 1)", Set{Name{"x", 0}, one}},
+		{"(define x 1)", Define{Name{"x", 0}, one}},
 		{"(lambda () 1)", Lambda{nil, one}},
-		{"(lambda (x y) y)", Lambda{[]Name{"x", "y"}, Name("y")}},
-		{"(f)", Call{[]Form{Name("f")}}},
+		{"(lambda (x y) y)", Lambda{[]Name{{"x", 0}, {"y", 1}}, Name{"y", 1}}},
+		{"(f)", Call{[]Form{Name{"f", 0}}}},
 		{"(1 2 3)", Call{[]Form{one, two, three}}},
-		{"('f x)", Call{[]Form{quoted(value.Name("f")), Name("x")}}},
+		{"('f x)", Call{[]Form{quoted(value.Name("f")), Name{"x", 0}}}},
 	} {
-		got, err := Read(c.text)
+		got, err := read(c.text)
 		if err != nil || !reflect.DeepEqual(got, c.want) {
 			t.Errorf("Read(%q) = %#v, %v, want %#v", c.text, got, err, c.want)
 		}
@@ -50,14 +53,25 @@ func TestALetIsTheCallThatItIsTheSameAs(t *testing.T) {
 		{"(let ((x 1) (y x)) (f x y))", "((lambda (x y) (f x y)) 1 x)"},
 		{"(let ((x (let ((y 1)) y))) (let () x))", "((lambda (x) ((lambda () x))) ((lambda (y) y) 1))"},
 	} {
-		let, err := Read(c.let)
+		let, err := read(c.let)
 		if err != nil {
 			t.Errorf("Read(%q): %v", c.let, err)
 			continue
 		}
-		call, err := Read(c.call)
+		call, err := read(c.call)
 		if err != nil || !reflect.DeepEqual(let, call) {
 			t.Errorf("Read(%q) = %#v, want %#v", c.let, let, call)
+		}
+	}
+}
+
+func TestANameHasItsNumberFromTheTable(t *testing.T) {
+	table := names.NewTable()
+	for range 2 {
+		for i, text := range []string{"x", "y", "z"} {
+			if got, err := Read(text, table); err != nil || got != (Name{Text: text, Number: i}) {
+				t.Errorf("Read(%q) = %#v, %v, want number %d", text, got, err, i)
+			}
 		}
 	}
 }
@@ -74,12 +88,12 @@ func TestAKeywordStandsOnlyAtTheHead(t *testing.T) {
 		"(let ((_ 1)) 1)", "(let ((x _)) 1)", "(let ((x 1) (_ 1)) 1)", "(let () _)",
 	}
 	for _, place := range places {
-		if _, err := Read(strings.ReplaceAll(place, "_", "a")); err != nil {
+		if _, err := read(strings.ReplaceAll(place, "_", "a")); err != nil {
 			t.Errorf("Read(%q) with a name: %v", place, err)
 		}
 		for _, keyword := range []string{"quote", "if", "lambda", "set!", "define", "begin", "let"} {
 			text := strings.ReplaceAll(place, "_", keyword)
-			if f, err := Read(text); f != nil || !errors.Is(err, fault.Fault(api.ErrForm)) {
+			if f, err := read(text); f != nil || !errors.Is(err, fault.Fault(api.ErrForm)) {
 				t.Errorf("Read(%q) = %#v, %v, want ErrForm", text, f, err)
 			}
 		}
@@ -92,11 +106,11 @@ func TestADefineIsTheWholeInputOrNoForm(t *testing.T) {
 		"(set! x _)", "(define x _)", "(lambda () _)", "(let ((x _)) 1)", "(let () _)",
 	} {
 		text := strings.ReplaceAll(place, "_", "(define x 1)")
-		if f, err := Read(text); f != nil || !errors.Is(err, fault.Fault(api.ErrForm)) {
+		if f, err := read(text); f != nil || !errors.Is(err, fault.Fault(api.ErrForm)) {
 			t.Errorf("Read(%q) = %#v, %v, want ErrForm", text, f, err)
 		}
 		text = strings.ReplaceAll(place, "_", "'(define x 1)")
-		if _, err := Read(text); err != nil {
+		if _, err := read(text); err != nil {
 			t.Errorf("Read(%q): %v", text, err)
 		}
 	}

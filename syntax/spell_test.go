@@ -32,7 +32,7 @@ func TestTheTextOfAFormIsItsDatums(t *testing.T) {
 		{strings.Repeat("a", 300), strings.Repeat("a", api.MaxPrint) + ".."},
 		{"(f " + strings.Repeat("x ", 140) + ")", "(f " + strings.Repeat("x ", 140)[:api.MaxPrint-3] + ".."},
 	} {
-		f, err := Read(c.text)
+		f, err := read(c.text)
 		if err != nil {
 			t.Errorf("Read(%q): %v", c.text, err)
 			continue
@@ -45,7 +45,7 @@ func TestTheTextOfAFormIsItsDatums(t *testing.T) {
 
 // A form that is spelled stays as it was: nothing is written behind its forms.
 func TestSpellingChangesNothing(t *testing.T) {
-	f, err := Read("(begin (f 1 2 3) (begin 4 5 6) 7)")
+	f, err := read("(begin (f 1 2 3) (begin 4 5 6) 7)")
 	if err != nil {
 		t.Fatal(err)
 	}

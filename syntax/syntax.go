@@ -22,7 +22,11 @@ type (
 		Quoted bool
 	}
 
-	Name string
+	// Name has its text, to be told, and its number, to be found by.
+	Name struct {
+		Text   string
+		Number int
+	}
 
 	If struct{ Test, Then, Else Form }
 

@@ -3,6 +3,7 @@ package value
 import (
 	"stepper/api"
 	"stepper/fault"
+	"stepper/names"
 	"stepper/spell"
 )
 
@@ -52,19 +53,20 @@ func (CallCC) isValue()    {}
 func (Primitive) Spell(to *spell.Text) { Applicable{}.Spell(to) }
 func (CallCC) Spell(to *spell.Text)    { Applicable{}.Spell(to) }
 
-// Globals is a new table of the globals that there are at the beginning.
-func Globals() map[string]Value {
-	globals := map[string]Value{"call/cc": CallCC{}}
+// Globals is a new table of the globals that there are at the beginning, by
+// the numbers of their names.
+func Globals(table *names.Table) map[int]Value {
+	globals := map[int]Value{table.Number("call/cc"): CallCC{}}
 	for i, p := range primitives {
-		globals[p.name] = Primitive(i)
+		globals[table.Number(p.name)] = Primitive(i)
 	}
 	return globals
 }
 
 // Apply is what the primitive gives for these arguments.
 func (p Primitive) Apply(arguments []Value, output *Output) (Value, error) {
-	if len(arguments) != primitives[p].arguments {
-		return nil, p.fault(api.ErrArity)
+	if err := CheckCount(primitives[p].name, primitives[p].arguments, arguments); err != nil {
+		return nil, err
 	}
 	switch p {
 	case Cons:
@@ -82,6 +84,15 @@ func (p Primitive) Apply(arguments []Value, output *Output) (Value, error) {
 		return p.display(arguments[0], output)
 	}
 	return p.ofNumbers(arguments[0], arguments[1])
+}
+
+// CheckCount is the error of applying something to these arguments, if they
+// are not as many as it asks for.
+func CheckCount(applied string, asked int, arguments []Value) error {
+	if len(arguments) != asked {
+		return fault.While("applying "+applied, api.ErrArity)
+	}
+	return nil
 }
 
 func (p Primitive) fault(code api.Errno) error {
